@@ -2,36 +2,24 @@
 package fixp
 
 import (
+	"math/bits"
 	"slices"
 
 	"sakia/api"
 )
 
-// lower has the lower half of the bits of a number.
-const lower = 1<<32 - 1
-
-// halves returns the lower and the upper 32 bits of a number.
-func halves(a int64) [2]uint64 {
-	u := uint64(a)
-	return [2]uint64{u & lower, u >> 32}
-}
-
 // Product returns the product of two numbers with 128 bits: it is hi·2^64 + lo.
 func Product(a, b int64) (hi int64, lo uint64) {
-	x, y := halves(a), halves(b)
-	low := x[0] * y[0]
-	// Adding one half to a product of halves never carries out of 64 bits.
-	mid := x[1]*y[0] + low>>32
-	cross := x[0]*y[1] + mid&lower
-	high := x[1]*y[1] + mid>>32 + cross>>32
-	// The halves of a negative number are those of the number plus 2^64, so the other factor is too much in the upper bits.
+	var parts [2]uint64
+	parts[1], parts[0] = bits.Mul64(uint64(a), uint64(b))
+	// A negative number was multiplied as itself plus 2^64, so the other one is too much in the upper part.
 	if a < 0 {
-		high -= uint64(b)
+		parts[1] -= uint64(b)
 	}
 	if b < 0 {
-		high -= uint64(a)
+		parts[1] -= uint64(a)
 	}
-	return int64(high), cross<<32 | low&lower
+	return int64(parts[1]), parts[0]
 }
 
 // Shift returns hi·2^64 + lo, divided by 2^q and rounded down, modulo 2^64; 0, if q is not from 0 to 63.
