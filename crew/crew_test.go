@@ -54,6 +54,7 @@ func inputs() []api.Input {
 		func(c *api.Config) { c.Workers, c.Window, c.Capacity, c.Bucket = 4, 100, 1, 1 },
 		func(c *api.Config) { c.Workers, c.Capacity, c.Bucket = 64, 1, 5 },
 		func(c *api.Config) { c.Workers, c.Capacity, c.Bucket = 64, api.MaxSize, 5 },
+		func(c *api.Config) { c.Steps = 1 },
 		func(c *api.Config) { c.Steps = 0 },
 		func(c *api.Config) { c.Steps, c.Workers = 0, 1 },
 	} {

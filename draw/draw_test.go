@@ -146,6 +146,7 @@ func TestAll(t *testing.T) {
 	for i, d := range draw.New().All {
 		t.Error(i, d)
 	}
+	draw.New(1, 2).All(nil)
 }
 
 // TestNil: on a nil Stream, all methods return zero values.

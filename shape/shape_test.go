@@ -186,7 +186,9 @@ func TestNil(t *testing.T) {
 	if k, row, col, ok := s.Place(0); k != 0 || row != 0 || col != 0 || ok {
 		t.Error(k, row, col, ok)
 	}
-	if i, ok := s.Index("b0.0"); i != 0 || ok {
-		t.Error(i, ok)
+	for _, name := range []string{"", "b0.0", "w0.0.0"} {
+		if i, ok := s.Index(name); i != 0 || ok {
+			t.Error(name, i, ok)
+		}
 	}
 }
